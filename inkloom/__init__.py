@@ -1,0 +1,1 @@
+"""Inkloom: the heart of an editor."""
