@@ -27,18 +27,19 @@ WALKERS = set("list tuple dict sorted sum any all enumerate zip min max join".sp
 UNDERSCORED = set("__init__ __eq__ __repr__ __str__ __len__".split())
 NO_FILES = set("test tests testing site conftest sitecustomize usercustomize".split())
 NO_NAMES = set("""register mro elements open input version_info with_traceback add_note format format_map attrgetter
-    breakpoint builtins compile copyright credits delattr dir eval exec exit gc getattr globals hasattr help id importlib
-    license locals methodcaller os quit setattr super vars sys""".split())
+    breakpoint builtins compile copyright credits delattr dir eval exec exit gc getattr globals hasattr help id
+    importlib license locals methodcaller os quit setattr super vars sys""".split())
+VALUES = set("count index find get lower upper split strip copy".split())
 NO_VALUES = set("""items keys values pop update append clear extend insert remove reverse setdefault sort args encode
     format""".split())
 NO_WORDS = re.compile(r"\b(type|typing|typing_extensions|enum|Enum|IntEnum|StrEnum|Flag|IntFlag|Generic|Protocol|ABC"
                       r"|ABCMeta|namedtuple|NamedTuple|TypedDict|TYPE_CHECKING|abstractmethod)\b"
                       r"|dataclass|overload|contextmanager")
 PLAIN_NAME = re.compile(r"[A-Za-z][A-Za-z0-9_]*")
-NODES = tuple(getattr(ast, name) for name in """Module FunctionDef ClassDef Return Assign AugAssign For While If Raise Try
-    Expr Pass Break Continue BoolOp BinOp UnaryOp Lambda IfExp Dict Set ListComp Compare Call FormattedValue JoinedStr
-    Constant Attribute Subscript Name List Tuple Slice comprehension ExceptHandler arguments arg keyword alias ImportFrom
-    operator unaryop boolop cmpop expr_context""".split())
+NODES = tuple(getattr(ast, name) for name in """Module FunctionDef ClassDef Return Assign AugAssign For While If Raise
+    Try Expr Pass Break Continue BoolOp BinOp UnaryOp Lambda IfExp Dict Set ListComp Compare Call FormattedValue JoinedStr
+    Constant Attribute Subscript Name List Tuple Slice comprehension ExceptHandler arguments arg keyword alias
+    ImportFrom operator unaryop boolop cmpop expr_context""".split())
 
 
 def parents_of(tree):
@@ -79,6 +80,8 @@ class Rules:
         defs = [node for tree in self.trees.values() for node in ast.walk(tree)]
         self.defs = {node.name for node in defs if isinstance(node, (ast.FunctionDef, ast.ClassDef))}
         self.classes = {node.name for node in defs if isinstance(node, ast.ClassDef)}
+        bodies = [one for node in defs if isinstance(node, ast.ClassDef) for one in node.body]
+        self.methods = {one.name for one in bodies if isinstance(one, ast.FunctionDef)}
         for name in sources:
             self.check_file(name)
         self.check_circles()
@@ -94,7 +97,8 @@ class Rules:
         self.check_signs(name, self.sources[name])
         self.check_top(name)
         for node in ast.walk(self.tree):
-            self.need(isinstance(node, NODES) and not isinstance(node, (ast.Div, ast.MatMult, ast.Del)), "L7", name, node)
+            good = isinstance(node, NODES) and not isinstance(node, (ast.Div, ast.MatMult, ast.Del))
+            self.need(good, "L7", name, node)
             for kind in type(node).__mro__:
                 check = getattr(self, "check_" + kind.__name__, None)
                 if check is not None:
@@ -159,8 +163,9 @@ class Rules:
         self.need(in_class or node.name not in dir(builtins), "L15", name, node)
 
     def check_arguments(self, name, node):
-        self.need(not (node.posonlyargs or node.vararg or node.kwonlyargs or node.kwarg), "L4", name, self.parents[node])
-        self.need(all(is_plain(one, []) for one in node.defaults), "L4", name, self.parents[node])
+        owner = self.parents[node]
+        self.need(not (node.posonlyargs or node.vararg or node.kwonlyargs or node.kwarg), "L4", name, owner)
+        self.need(all(is_plain(one, []) for one in node.defaults), "L4", name, owner)
 
     def check_arg(self, name, node):
         self.need(node.annotation is None, "L21", name, node)
@@ -186,7 +191,8 @@ class Rules:
         self.need(PLAIN_NAME.fullmatch(node.id) and node.id not in NO_NAMES, "L17", name, node)
         self.need(node.id not in dir(builtins) or node.id in CALLS | ERRORS, "L8", name, node)
         if node.id in CALLS:
-            self.need(self.is_called(node) or self.is_kind(node) or self.is_key(node), "L22", name, node)
+            good = self.is_called(node) or self.is_kind(node) and node.id in KINDS or self.is_key(node)
+            self.need(good, "L22", name, node)
         if node.id in self.classes | ERRORS:
             parent = self.parents[node]
             good = self.is_called(node) or self.is_kind(node) or isinstance(parent, (ast.ClassDef, ast.ExceptHandler))
@@ -214,9 +220,10 @@ class Rules:
         if self.is_called(node):
             self.need(node.attr in METHODS or node.attr in self.defs or node.attr == "__init__", "L25", name, node)
         elif isinstance(node.ctx, ast.Store):
-            self.need(node.attr not in NO_VALUES and node.attr not in self.defs, "L26", name, node)
+            self.need(node.attr not in NO_VALUES, "L26", name, node)
+            self.need(node.attr not in self.methods, "L18", name, node)
         else:
-            self.need(node.attr not in METHODS or not hasattr(str, node.attr), "L25", name, node)
+            self.need(node.attr not in METHODS - VALUES, "L25", name, node)
 
     def check_Call(self, name, node):
         word = called(node)
@@ -279,10 +286,7 @@ class Rules:
 
     def check_Constant(self, name, node):
         self.need(node.value is None or isinstance(node.value, (int, str)), "L7", name, node)
-        self.need(not isinstance(node.value, str) or "%" not in node.value, "L27", name, self.line_of(node))
-
-    def line_of(self, node):
-        return getattr(node, "lineno", 0)
+        self.need(not isinstance(node.value, str) or "%" not in node.value, "L27", name, node)
 
     def check_BinOp(self, name, node):
         if isinstance(node.op, ast.Pow):
@@ -312,10 +316,13 @@ BAD = [
     ("L15", "A = []\n\n\ndef f():\n    A.append(1)\n"), ("L15", "A = []\n\n\ndef f():\n    A[0] = 1\n"),
     ("L15", "def f(hash):\n    pass\n"), ("L17", "# a type\n"), ("L17", "def f(a):\n    return a.elements\n"),
     ("L18", "class A:\n    pass\n\n\ndef f():\n    return [A]\n"), ("L19", "def f(a):\n    raise a\n"),
+    ("L18", "class A:\n    def b(self):\n        self.b = 1\n"),
     ("L19", "def f(a):\n    try:\n        f(a)\n    except TypeError:\n        pass\n"),
     ("L20", "def f(a):\n    return a is f\n"), ("L21", "def f(a: int):\n    return a\n"),
+    ("L22", "def f(a):\n    return isinstance(a, set)\n"), ("L25", "def f(a):\n    return a.append\n"),
     ("L22", "def f(a):\n    return [len]\n"), ("L22", "def f(a):\n    return a.split(sep=a)\n"),
-    ("L23", "def f(a):\n    b = range(a)\n    return b\n"), ("L23", "def f(a):\n    for b in a:\n        a.append(b)\n"),
+    ("L23", "def f(a):\n    b = range(a)\n    return b\n"),
+    ("L23", "def f(a):\n    for b in a:\n        a.append(b)\n"),
     ("L24", "def f(a):\n    a = set(a)\n"), ("L25", "def f(a):\n    a.sort()\n"), ("L27", "A = '%'\n"),
     ("L27", "A = '\\x41'\n"), ("L27", "def f(a):\n    return 2 ** a\n"),
 ]

@@ -83,9 +83,9 @@ class SwappedTest(unittest.TestCase):
         self.assertEqual(done("abc" * 3000, swapped("abc" * 3000, swaps)), "xybc" * 3000)
 
     def test_no_places(self):
-        for swap in [(-1, 0, ""), (0, -1, ""), (-1, -1, ""), (4, 4, ""), (0, 4, ""), (3, 4, ""), (2, 1, ""), (3, 0, "")]:
-            with self.assertRaises(NoPlace, msg=swap):
-                swapped("abc", [swap])
+        for begin, end in [(-1, 0), (0, -1), (-1, -1), (4, 4), (0, 4), (3, 4), (2, 1), (3, 0)]:
+            with self.assertRaises(NoPlace, msg=(begin, end)):
+                swapped("abc", [(begin, end, "")])
 
     def test_out_of_order(self):
         for swaps in [[(0, 2, ""), (1, 3, "")], [(2, 3, ""), (0, 1, "")], [(0, 2, ""), (1, 1, "")],
