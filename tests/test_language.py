@@ -1,4 +1,7 @@
-"""The form of the package's files: the rules L1 to L28, as far as they can be seen in the code."""
+"""The form of the package's files, a first sieve: it finds common breaks of the rules of the language, not all.
+
+L11, L13 and L28 are not looked at; of L15, L18, L19, L23, L24 and L26 only a part is.
+"""
 
 import ast
 import builtins
@@ -37,8 +40,8 @@ NO_WORDS = re.compile(r"\b(type|typing|typing_extensions|enum|Enum|IntEnum|StrEn
                       r"|dataclass|overload|contextmanager")
 PLAIN_NAME = re.compile(r"[A-Za-z][A-Za-z0-9_]*")
 NODES = tuple(getattr(ast, name) for name in """Module FunctionDef ClassDef Return Assign AugAssign For While If Raise
-    Try Expr Pass Break Continue BoolOp BinOp UnaryOp Lambda IfExp Dict Set ListComp Compare Call FormattedValue JoinedStr
-    Constant Attribute Subscript Name List Tuple Slice comprehension ExceptHandler arguments arg keyword alias
+    Try Expr Pass Break Continue BoolOp BinOp UnaryOp Lambda IfExp Dict Set ListComp Compare Call FormattedValue
+    JoinedStr Constant Attribute Subscript Name List Tuple Slice comprehension ExceptHandler arguments arg keyword alias
     ImportFrom operator unaryop boolop cmpop expr_context""".split())
 
 
