@@ -42,6 +42,30 @@ def sizes(change):
     return (over, gives)
 
 
+class Walk:
+    # An offset moves through long texts; cutting off what was taken would copy the rest each time.
+    def __init__(self, change):
+        self.parts = list(change)
+        self.passed_by = 0
+        self.offset = 0
+
+    def word(self):
+        return self.parts[self.passed_by][0] if self.passed_by < len(self.parts) else ""
+
+    def left(self):
+        return part_size(self.parts[self.passed_by]) - self.offset
+
+    def take(self, size):
+        part = self.parts[self.passed_by]
+        begin = self.offset
+        end = begin + size
+        self.offset = end
+        if self.left() == 0:
+            self.passed_by = self.passed_by + 1
+            self.offset = 0
+        return (part[0], size if part[0] == "keep" else part[1][begin:end])
+
+
 def add_keep(change, size):
     # Two keeps come together where nothing of any size was put or cut between them.
     if len(change) > 0 and change[-1][0] == "keep":

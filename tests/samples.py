@@ -1,5 +1,6 @@
 """What several tests draw from: things of all kinds, small parts, and slow and plain ways to the same answers."""
 
+import copy
 import itertools
 
 GOOD_SIGNS = [chr(code) for code in range(32, 127) if code != 37] + ["\n"]
@@ -9,6 +10,16 @@ CUTS = [("cut", "a"), ("cut", "ba")]
 KEEPS = [("keep", 1), ("keep", 2)]
 GOOD_PARTS = PUTS + CUTS + KEEPS
 LOOSE_PARTS = GOOD_PARTS + [("put", ""), ("cut", ""), ("keep", 0)]
+
+BAD_ORDERS = [
+    [("keep", 1), ("keep", 1)],
+    [("put", "a"), ("put", "b")],
+    [("cut", "a"), ("cut", "b")],
+    [("cut", "a"), ("put", "b")],
+    [("keep", 1), ("cut", "a"), ("put", "b"), ("keep", 1)],
+    [("put", "a"), ("cut", "b"), ("put", "c")],
+    [("put", "a"), ("cut", "b"), ("keep", 1), ("keep", 2)],
+]
 
 
 class Odd:
@@ -37,6 +48,38 @@ def no_texts():
 
 def no_wholes():
     return other_kinds() + ["", "0", "1", "a", "\t", (), (1,), [], [1]]
+
+
+def no_sides():
+    """Things that are neither "left" nor "right"."""
+    words = ["", "Left", "LEFT", "lef", "left ", " right", "l", "leftright", "up", "\t"]
+    return other_kinds() + words + [0, 1, (), ("left",), [], ["left"], [["right"]], {"left": "right"}]
+
+
+def bad_parts():
+    """Things that are no part of a change."""
+    bad = [("keep", number) for number in no_wholes() + [0, -1, -2, -10 ** 30]]
+    for word in ("cut", "put"):
+        bad += [(word, text) for text in no_texts() + [""]]
+    for word in ("", "Keep", "KEEP", "keeps", "kee", "keep ", "CUT", "puts", "add", "\t", 0, 1, (), [], ("keep",)):
+        bad += [(word, 1), (word, "a")]
+    for word in other_kinds():
+        bad += [(word, 1), (word, "a")]
+    bad += [(), ("keep",), ("cut",), ("put",), ("keep", 1, 1), ("keep", 1, None), ("cut", "a", "a"), ("put", "a", 1)]
+    bad += [["keep", 1], ["cut", "a"], ["put", "a"], "keep", "ab", "a", "", 1, 0, [], [("keep", 1)], (("keep", 1),)]
+    return bad + other_kinds()
+
+
+def no_changes():
+    looped = []
+    looped.append(looped)
+    bad = other_kinds() + [0, 1, -1, "", "a", "keep", (), ("keep", 1), (("keep", 1),), {("keep", 1): True}, looped]
+    for part in bad_parts():
+        bad.append([part])
+        bad.append([("keep", 1), part])
+        bad.append([part, ("keep", 1)])
+        bad.append([("put", "a"), ("cut", "a"), part])
+    return bad + copy.deepcopy(BAD_ORDERS)
 
 
 def rows(parts, most):
@@ -95,3 +138,58 @@ def texts(signs, most):
     for many in range(most + 1):
         for row in itertools.product(signs, repeat=many):
             yield "".join(row)
+
+
+def changes_of(text, puts):
+    """All changes of this text that put one of these texts, or nothing, into each gap."""
+    told = []
+    for row in itertools.product(["", *puts], repeat=len(text) + 1):
+        for kept in itertools.product([True, False], repeat=len(text)):
+            parts = [("put", row[0])]
+            for place, sign in enumerate(text):
+                parts += [("keep", 1) if kept[place] else ("cut", sign), ("put", row[place + 1])]
+            change = neatened(parts)
+            if change not in told:
+                told.append(change)
+    return told
+
+
+def some_text(chance, most, signs="ab \n"):
+    return "".join(chance.choice(signs) for number in range(chance.randrange(most + 1)))
+
+
+def some_change(chance, text, signs="abxy \n", parts=4):
+    """A change of this text with a few parts, by a random source that is handed in."""
+    told = []
+    place = 0
+    for number in range(chance.randrange(parts + 1)):
+        end = chance.randrange(place, len(text) + 1)
+        told.append(("put", some_text(chance, 3, signs)) if chance.randrange(2) else ("put", ""))
+        told.append(("keep", end - place) if chance.randrange(2) else ("cut", text[place:end]))
+        place = end
+    return neatened(told + [("keep", len(text) - place)])
+
+
+def kept_places(change):
+    """For each old sign its place behind the change, or None where it is cut."""
+    told = []
+    new = 0
+    for word, what in change:
+        if word == "put":
+            new += len(what)
+        elif word == "cut":
+            told += [None] * len(what)
+        else:
+            told += range(new, new + what)
+            new += what
+    return told
+
+
+def place_behind(change, place, side):
+    """Where a place comes, sign by sign."""
+    kept = kept_places(change)
+    if side == "left":
+        ahead = [new for new in kept[:place] if new is not None]
+        return ahead[-1] + 1 if ahead else 0
+    behind_it = [new for new in kept[place:] if new is not None]
+    return behind_it[0] if behind_it else sum(size_of(part) for part in change if part[0] != "cut")

@@ -4,8 +4,8 @@ import unittest
 from inkloom.changes import back, done, need_change, neat, sizes
 from inkloom.errors import BadChange, BadFit, BadText
 
-from samples import GOOD_PARTS, GOOD_SIGNS, LOOSE_PARTS, Odd
-from samples import behind, changes, is_neat, neatened, no_texts, no_wholes, other_kinds, rows, texts
+from samples import BAD_ORDERS, GOOD_PARTS, GOOD_SIGNS, LOOSE_PARTS, Odd
+from samples import behind, changes, is_neat, neatened, no_changes, no_texts, rows, texts
 
 GOOD_CHANGES = [
     [],
@@ -21,43 +21,7 @@ GOOD_CHANGES = [
     [("put", "".join(GOOD_SIGNS)), ("cut", "".join(GOOD_SIGNS))],
 ]
 
-BAD_ORDERS = [
-    [("keep", 1), ("keep", 1)],
-    [("put", "a"), ("put", "b")],
-    [("cut", "a"), ("cut", "b")],
-    [("cut", "a"), ("put", "b")],
-    [("keep", 1), ("cut", "a"), ("put", "b"), ("keep", 1)],
-    [("put", "a"), ("cut", "b"), ("put", "c")],
-    [("put", "a"), ("cut", "b"), ("keep", 1), ("keep", 2)],
-]
-
 MANY = 4000
-
-
-def bad_parts():
-    """Things that are no part of a change."""
-    bad = [("keep", number) for number in no_wholes() + [0, -1, -2, -10 ** 30]]
-    for word in ("cut", "put"):
-        bad += [(word, text) for text in no_texts() + [""]]
-    for word in ("", "Keep", "KEEP", "keeps", "kee", "keep ", "CUT", "puts", "add", "\t", 0, 1, (), [], ("keep",)):
-        bad += [(word, 1), (word, "a")]
-    for word in other_kinds():
-        bad += [(word, 1), (word, "a")]
-    bad += [(), ("keep",), ("cut",), ("put",), ("keep", 1, 1), ("keep", 1, None), ("cut", "a", "a"), ("put", "a", 1)]
-    bad += [["keep", 1], ["cut", "a"], ["put", "a"], "keep", "ab", "a", "", 1, 0, [], [("keep", 1)], (("keep", 1),)]
-    return bad + other_kinds()
-
-
-def no_changes():
-    looped = []
-    looped.append(looped)
-    bad = other_kinds() + [0, 1, -1, "", "a", "keep", (), ("keep", 1), (("keep", 1),), {("keep", 1): True}, looped]
-    for part in bad_parts():
-        bad.append([part])
-        bad.append([("keep", 1), part])
-        bad.append([part, ("keep", 1)])
-        bad.append([("put", "a"), ("cut", "a"), part])
-    return bad + copy.deepcopy(BAD_ORDERS)
 
 
 def long_change():

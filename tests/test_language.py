@@ -259,7 +259,9 @@ class Rules:
             self.need(getattr(node.value, "id", "") not in top_names(self.tree), "L15", name, node)
 
     def check_Assign(self, name, node):
-        self.need(len(node.targets) == 1, "L6", name, node)
+        # The rule asks for one target: a row of names at the left is held to be several.
+        plain = isinstance(node.targets[0], (ast.Name, ast.Attribute, ast.Subscript))
+        self.need(len(node.targets) == 1 and plain, "L6", name, node)
 
     def check_For(self, name, node):
         self.need(not node.orelse, "L6", name, node)
@@ -310,7 +312,8 @@ class Rules:
 BAD = [
     ("L2", "from inkloom.nothing import some\n"), ("L3", "1 + 1\n"), ("L3", "A = len([])\n"),
     ("L4", "def f(*a):\n    pass\n"), ("L4", "def f(*, a):\n    pass\n"), ("L5", "class A:\n    a = 1\n"),
-    ("L6", "def f():\n    a = b = 1\n"), ("L6", "def f(a):\n    a\n"), ("L7", "def f(a):\n    return a / 2\n"),
+    ("L6", "def f():\n    a = b = 1\n"), ("L6", "def f(c):\n    a, b = c\n"),
+    ("L6", "def f(a):\n    a\n"), ("L7", "def f(a):\n    return a / 2\n"),
     ("L7", "def f(a):\n    return a * 1.5\n"), ("L7", "def f(a):\n    assert a\n"),
     ("L7", "def f(a):\n    return f(b for b in a)\n"), ("L7", "def f(a):\n    return f'{a[0]}'\n"),
     ("L8", "def f(a):\n    return hash(a)\n"), ("L8", "def f(a):\n    return chr(a)\n"),
