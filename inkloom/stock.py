@@ -9,6 +9,7 @@ class Stock:
     def __init__(self):
         self.texts = []
         self.begins = []
+        self.feeds = []
         self.signs = 0
 
     def put(self, text):
@@ -17,6 +18,10 @@ class Stock:
         self.texts.append(text)
         self.begins.append(begin)
         self.signs = begin + len(text)
+        feed = text.find("\n")
+        while feed >= 0:
+            self.feeds.append(begin + feed)
+            feed = text.find("\n", feed + 1)
         return begin
 
     def read(self, begin, size):
@@ -35,3 +40,9 @@ class Stock:
 
     def many(self):
         return self.signs
+
+    def ends_ahead(self, place):
+        return many_upto(self.feeds, place - 1)
+
+    def end_place(self, number):
+        return self.feeds[number]

@@ -193,3 +193,31 @@ def place_behind(change, place, side):
         return ahead[-1] + 1 if ahead else 0
     behind_it = [new for new in kept[place:] if new is not None]
     return behind_it[0] if behind_it else sum(size_of(part) for part in change if part[0] != "cut")
+
+
+def least_pieces(height):
+    """How few pieces a node of this height may have."""
+    row = [0, 1]
+    while len(row) <= height:
+        row.append(1 + row[-1] + row[-2])
+    return row[height]
+
+
+def faults_of_node(node, stock):
+    """What is wrong with a node, beside the stock; an empty list where nothing is."""
+    if node is None:
+        return []
+    left, piece, right, height, size, ends = node
+    begin, length, feeds = piece
+    heights = [0 if side is None else side[3] for side in (left, right)]
+    sides = [side for side in (left, right) if side is not None]
+    told = {
+        "height": height == 1 + max(heights),
+        "level": abs(heights[0] - heights[1]) <= 1,
+        "piece": length >= 1 and stock.read(begin, length).count("\n") == feeds,
+        "size": size == length + sum(side[4] for side in sides),
+        "ends": ends == feeds + sum(side[5] for side in sides),
+        "tuples": isinstance(node, tuple) and isinstance(piece, tuple) and len(node) == 6 and len(piece) == 3,
+    }
+    faults = [name for name, good in told.items() if not good]
+    return faults_of_node(left, stock) + faults + faults_of_node(right, stock)
