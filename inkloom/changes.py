@@ -1,18 +1,17 @@
 """Changes: what they are, how parts are made neat, and how a change is done to a text."""
 
 from inkloom.errors import BadChange, BadFit, NoPlace
-from inkloom.signs import is_between, is_text, is_whole, need_text
+from inkloom.signs import is_between, is_text, is_whole, is_word, need_text
 
 WAYS_BACK = {"keep": "keep", "cut": "put", "put": "cut"}
 
 
 def is_part(thing):
-    # The word must be a str before it is compared: things of other kinds may compare in ways of their own.
-    if not isinstance(thing, tuple) or len(thing) != 2 or not isinstance(thing[0], str):
+    if not isinstance(thing, tuple) or len(thing) != 2:
         return False
-    if thing[0] == "keep":
+    if is_word(thing[0], ("keep",)):
         return is_whole(thing[1]) and thing[1] >= 1
-    return thing[0] in ("cut", "put") and is_text(thing[1]) and thing[1] != ""
+    return is_word(thing[0], ("cut", "put")) and is_text(thing[1]) and thing[1] != ""
 
 
 def may_follow(word, ahead):
@@ -29,6 +28,14 @@ def need_change(change):
         if not may_follow(part[0], ahead):
             raise BadChange("neighbours have two words, and no put stands right behind a cut")
         ahead = part[0]
+
+
+def is_change(thing):
+    try:
+        need_change(thing)
+    except BadChange:
+        return False
+    return True
 
 
 def part_size(part):

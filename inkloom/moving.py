@@ -3,11 +3,13 @@
 from inkloom.changes import sizes
 from inkloom.errors import BadSide, NoPlace
 from inkloom.rows import many_upto
-from inkloom.signs import is_between
+from inkloom.signs import is_between, is_word
+
+SIDES = ("left", "right")
 
 
 def need_side(side):
-    if not isinstance(side, str) or side not in ("left", "right"):
+    if not is_word(side, SIDES):
         raise BadSide("a side is left or right")
 
 

@@ -1,4 +1,4 @@
-"""What whole numbers and texts are."""
+"""What whole numbers, texts and the like are."""
 
 from inkloom.errors import BadText
 
@@ -12,6 +12,15 @@ def is_whole(thing):
 
 def is_between(thing, least, most):
     return is_whole(thing) and least <= thing <= most
+
+
+def is_truth(thing):
+    return thing is True or thing is False
+
+
+def is_word(thing, words):
+    # Things of other kinds may compare in ways of their own: only a str is compared.
+    return isinstance(thing, str) and thing in words
 
 
 def is_text(thing):

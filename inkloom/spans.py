@@ -2,14 +2,14 @@
 
 from inkloom.errors import BadSide, NoPlace
 from inkloom.marks import Shelf
-from inkloom.signs import is_between
+from inkloom.signs import is_between, is_truth
 
 
 class Spans(Shelf):
     def add(self, begin, end, grows):
         if not is_between(begin, 0, self.size()) or not is_between(end, begin, self.size()):
             raise NoPlace("a span leads from a place of the text to one that is no less")
-        if grows is not True and grows is not False:
+        if not is_truth(grows):
             raise BadSide("a span grows or doesn't: True or False")
         return self.keep([(begin, "left" if grows else "right"), (end, "right" if grows else "left")])
 

@@ -158,7 +158,8 @@ class ThenTest(unittest.TestCase):
 
     def test_what_was_put_is_cut_otherwise(self):
         for one, other in [([("put", "x")], [("cut", "y")]), ([("put", "xy")], [("keep", 1), ("cut", "x")]),
-                           ([("put", "x"), ("keep", 1)], [("cut", "yb")]), ([("keep", 1), ("put", "x")], [("cut", "ay")]),
+                           ([("put", "x"), ("keep", 1)], [("cut", "yb")]),
+                           ([("keep", 1), ("put", "x")], [("cut", "ay")]),
                            ([("put", "x"), ("cut", "a")], [("put", "b"), ("cut", "a")]),
                            ([("put", "xy")], [("cut", "y"), ("keep", 1), ("put", "z")])]:
             with self.assertRaises(BadFit, msg=(one, other)):
