@@ -49,6 +49,10 @@ def sizes(change):
     return (over, gives)
 
 
+def keeps_all(change):
+    return all([part[0] == "keep" for part in change])
+
+
 class Walk:
     # An offset moves through long texts; cutting off what was taken would copy the rest each time.
     def __init__(self, change):

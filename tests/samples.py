@@ -11,6 +11,8 @@ KEEPS = [("keep", 1), ("keep", 2)]
 GOOD_PARTS = PUTS + CUTS + KEEPS
 LOOSE_PARTS = GOOD_PARTS + [("put", ""), ("cut", ""), ("keep", 0)]
 
+STEP_WORDS = ["left", "right", "home", "end", "top", "bottom", "back", "on", "up", "down"]
+
 BAD_ORDERS = [
     [("keep", 1), ("keep", 1)],
     [("put", "a"), ("put", "b")],
@@ -221,3 +223,104 @@ def faults_of_node(node, stock):
     }
     faults = [name for name, good in told.items() if not good]
     return faults_of_node(left, stock) + faults + faults_of_node(right, stock)
+
+
+def pair_meets(one, other):
+    """Whether two cursors meet, whichever stands first."""
+    one, other = sorted([sorted(one[:2]), sorted(other[:2])])
+    if other[0] < one[1]:
+        return True
+    return other[0] == one[1] and (one[0] == one[1] or other[0] == other[1])
+
+
+def settled_plainly(cursors):
+    told = []
+    for cursor in sorted(cursors, key=lambda cursor: sorted(cursor[:2])):
+        if told and pair_meets(told[-1][0], cursor):
+            (begin, end, goal), row = told.pop()
+            told.append(((begin, max(end, *cursor[:2]), None), row + [cursor]))
+        else:
+            told.append(((min(cursor[:2]), max(cursor[:2]), None), [cursor]))
+    settled_ones = []
+    for (begin, end, goal), row in told:
+        first = next(cursor for cursor in cursors if any(cursor is one for one in row))
+        if len(row) == 1:
+            settled_ones.append(row[0])
+        elif first[1] < first[0]:
+            settled_ones.append((end, begin, None))
+        else:
+            settled_ones.append((begin, end, None))
+    return settled_ones
+
+
+def is_word_sign(sign):
+    return sign.isascii() and sign.isalnum()
+
+
+def head_plainly(text, head, goal, word):
+    """Where a head comes to by a word, and the goal behind, sign by sign in a plain text."""
+    lines = text.split("\n")
+    line, column = text[:head].count("\n"), head - (text[:head].rfind("\n") + 1)
+    begins = [sum(len(one) + 1 for one in lines[:number]) for number in range(len(lines))]
+    if word == "left":
+        return max(head - 1, 0), None
+    if word == "right":
+        return min(head + 1, len(text)), None
+    if word in ("top", "bottom"):
+        return (0 if word == "top" else len(text)), None
+    if word in ("home", "end"):
+        return begins[line] + (0 if word == "home" else len(lines[line])), None
+    if word in ("back", "on"):
+        for wanted in (False, True):
+            if word == "back":
+                while head > 0 and is_word_sign(text[head - 1]) == wanted:
+                    head -= 1
+            else:
+                while head < len(text) and is_word_sign(text[head]) == wanted:
+                    head += 1
+        return head, None
+    goal = column if goal is None else goal
+    other = line - 1 if word == "up" else line + 1
+    if other < 0:
+        return 0, goal
+    if other == len(lines):
+        return len(text), goal
+    return begins[other] + min(goal, len(lines[other])), goal
+
+
+def stepped_plainly(text, cursor, word, hold):
+    anchor, head, goal = cursor
+    if anchor != head and not hold and word in ("left", "right"):
+        place = min(anchor, head) if word == "left" else max(anchor, head)
+        return place, place, None
+    head, goal = head_plainly(text, head, goal, word)
+    return (anchor if hold else head), head, goal
+
+
+def some_cursors(chance, size, most=8):
+    """Settled cursors of a text of so many signs."""
+    cursors = []
+    for number in range(chance.randrange(1, most + 1)):
+        anchor = chance.randrange(size + 1)
+        head = min(size, max(0, anchor + chance.choice([0, 0, 0, 1, 2, 4, -1, -2, -4])))
+        cursors.append((anchor, head, chance.choice([None, None, 0, 2])))
+    return settled_plainly(cursors)
+
+
+def entered_plainly(text, cursors, put):
+    """The text behind texts entered at cursors, the change by which it came, and the cursors, by slices alone."""
+    told, parts, places, ahead = "", [], [], 0
+    for (anchor, head, goal), more in zip(cursors, put):
+        begin, end = sorted((anchor, head))
+        told += text[ahead:begin] + more
+        parts += [("keep", begin - ahead), ("put", more), ("cut", text[begin:end])]
+        places.append((len(told), len(told), None))
+        ahead = end
+    parts.append(("keep", len(text) - ahead))
+    return told + text[ahead:], neatened(parts), settled_plainly(places)
+
+
+def erased_plainly(text, cursors, word):
+    cursors = [stepped_plainly(text, cursor, word, True) if cursor[0] == cursor[1] else cursor for cursor in cursors]
+    cursors = settled_plainly(cursors)
+    return entered_plainly(text, cursors, [""] * len(cursors))

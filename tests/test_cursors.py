@@ -7,15 +7,8 @@ from inkloom.changes import sizes
 from inkloom.cursors import carried, need_cursors, settled
 from inkloom.errors import BadChange, NoCursor
 
-from samples import Odd, no_changes, no_wholes, other_kinds, place_behind, some_change, some_text
-
-
-def pair_meets(one, other):
-    """Whether two cursors meet, whichever stands first."""
-    one, other = sorted([sorted(one[:2]), sorted(other[:2])])
-    if other[0] < one[1]:
-        return True
-    return other[0] == one[1] and (one[0] == one[1] or other[0] == other[1])
+from samples import Odd, no_changes, no_wholes, other_kinds, pair_meets, place_behind, settled_plainly
+from samples import some_change, some_text
 
 
 def are_cursors(size, cursors):
@@ -26,26 +19,6 @@ def are_cursors(size, cursors):
     goals = all(cursor[2] is None or cursor[2] >= 0 for cursor in cursors)
     return 1 <= len(cursors) <= 40 and all(0 <= place <= size for place in places) and begins == sorted(begins) \
         and apart and goals
-
-
-def settled_plainly(cursors):
-    told = []
-    for cursor in sorted(cursors, key=lambda cursor: sorted(cursor[:2])):
-        if told and pair_meets(told[-1][0], cursor):
-            (begin, end, goal), row = told.pop()
-            told.append(((begin, max(end, *cursor[:2]), None), row + [cursor]))
-        else:
-            told.append(((min(cursor[:2]), max(cursor[:2]), None), [cursor]))
-    settled_ones = []
-    for (begin, end, goal), row in told:
-        first = next(cursor for cursor in cursors if any(cursor is one for one in row))
-        if len(row) == 1:
-            settled_ones.append(row[0])
-        elif first[1] < first[0]:
-            settled_ones.append((end, begin, None))
-        else:
-            settled_ones.append((begin, end, None))
-    return settled_ones
 
 
 def fresh(cursors):

@@ -308,6 +308,16 @@ class RefusalsTest(HistoryCase):
         self.assertEqual(all_of(history), ahead)
         self.assertEqual(history.undo(), [("keep", 1), ("cut", "b")])
 
+    def test_what_does_not_fit_a_new_one(self):
+        history = History(2)
+        for ask in (history.do, history.more, history.foreign):
+            for change in ([], [("keep", 1)], [("keep", 3)], [("put", "ab")], [("cut", "abc")]):
+                with self.assertRaises(BadFit, msg=change):
+                    ask(change)
+            with self.assertRaises(BadChange):
+                ask([("keep", 3), ("keep", 0)])
+        self.assertEqual(all_of(history), (0, 1, [(None, [], 2)]))
+
     def test_what_can_not_pass_changes_nothing(self):
         history = History(2)
         for change in ([("keep", 2), ("put", "c")], [("cut", "a"), ("keep", 1)], [("keep", 1), ("cut", "b")]):

@@ -7,53 +7,7 @@ from inkloom.errors import BadDeed, NoCursor
 from inkloom.papers import paper_of
 from inkloom.steps import OTHER_SIGNS, WORD_SIGNS, all_stepped, stepped
 
-from samples import GOOD_SIGNS, Odd, no_wholes, other_kinds, some_change, some_text, texts
-
-WORDS = ["left", "right", "home", "end", "top", "bottom", "back", "on", "up", "down"]
-
-
-def is_word_sign(sign):
-    return sign.isascii() and sign.isalnum()
-
-
-def head_plainly(text, head, goal, word):
-    """Where a head comes to by a word, and the goal behind, sign by sign in a plain text."""
-    lines = text.split("\n")
-    line, column = text[:head].count("\n"), head - (text[:head].rfind("\n") + 1)
-    begins = [sum(len(one) + 1 for one in lines[:number]) for number in range(len(lines))]
-    if word == "left":
-        return max(head - 1, 0), None
-    if word == "right":
-        return min(head + 1, len(text)), None
-    if word in ("top", "bottom"):
-        return (0 if word == "top" else len(text)), None
-    if word in ("home", "end"):
-        return begins[line] + (0 if word == "home" else len(lines[line])), None
-    if word in ("back", "on"):
-        for wanted in (False, True):
-            if word == "back":
-                while head > 0 and is_word_sign(text[head - 1]) == wanted:
-                    head -= 1
-            else:
-                while head < len(text) and is_word_sign(text[head]) == wanted:
-                    head += 1
-        return head, None
-    goal = column if goal is None else goal
-    other = line - 1 if word == "up" else line + 1
-    if other < 0:
-        return 0, goal
-    if other == len(lines):
-        return len(text), goal
-    return begins[other] + min(goal, len(lines[other])), goal
-
-
-def stepped_plainly(text, cursor, word, hold):
-    anchor, head, goal = cursor
-    if anchor != head and not hold and word in ("left", "right"):
-        place = min(anchor, head) if word == "left" else max(anchor, head)
-        return place, place, None
-    head, goal = head_plainly(text, head, goal, word)
-    return (anchor if hold else head), head, goal
+from samples import GOOD_SIGNS, STEP_WORDS, Odd, no_wholes, other_kinds, some_change, some_text, stepped_plainly, texts
 
 
 class SteppedTest(unittest.TestCase):
@@ -140,7 +94,7 @@ class SteppedTest(unittest.TestCase):
         self.assert_steps("", (0, 0, None), "down", True, (0, 0, 0))
 
     def test_the_empty_text(self):
-        for word, hold in itertools.product(WORDS, (True, False)):
+        for word, hold in itertools.product(STEP_WORDS, (True, False)):
             goal = 5 if word in ("up", "down") else None
             self.assert_steps("", (0, 0, 5), word, hold, (0, 0, goal))
 
@@ -149,7 +103,7 @@ class SteppedTest(unittest.TestCase):
             paper = paper_of(text)
             places = range(len(text) + 1)
             for anchor, head, goal in itertools.product(places, places, (None, 0, 2)):
-                for word, hold in itertools.product(WORDS, (True, False)):
+                for word, hold in itertools.product(STEP_WORDS, (True, False)):
                     told = stepped(paper, (anchor, head, goal), word, hold)
                     self.assertEqual(told, stepped_plainly(text, (anchor, head, goal), word, hold))
 
@@ -162,7 +116,7 @@ class SteppedTest(unittest.TestCase):
                 change = some_change(chance, paper.text(), "ab-\n")
                 paper = paper.changed(change)
             text = paper.text()
-            for word, hold, head in itertools.product(WORDS, (True, False), range(len(text) + 1)):
+            for word, hold, head in itertools.product(STEP_WORDS, (True, False), range(len(text) + 1)):
                 cursor = (chance.randrange(len(text) + 1), head, chance.choice([None, 0, 1, 3]))
                 self.assertEqual(stepped(paper, cursor, word, hold), stepped_plainly(text, cursor, word, hold))
 
@@ -200,7 +154,7 @@ class RefusalsTest(unittest.TestCase):
                     all_stepped(paper, [(0, 0, None)], word, hold)
         holds = [thing for thing in other_kinds() if thing is not True and thing is not False]
         for hold in holds + [0, 1, "", "True", (), [], [True]]:
-            for word in WORDS:
+            for word in STEP_WORDS:
                 with self.assertRaises(BadDeed):
                     stepped(paper, (0, 0, None), word, hold)
                 with self.assertRaises(BadDeed):
@@ -234,7 +188,7 @@ class AllSteppedTest(unittest.TestCase):
             cursors = settled(cursors)
             kept = list(cursors)
             paper = paper_of(text)
-            for word, hold in itertools.product(WORDS, (True, False)):
+            for word, hold in itertools.product(STEP_WORDS, (True, False)):
                 told = settled([stepped_plainly(text, cursor, word, hold) for cursor in cursors])
                 self.assertEqual(all_stepped(paper, cursors, word, hold), told)
                 self.assertEqual(cursors, kept)
