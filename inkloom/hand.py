@@ -86,7 +86,7 @@ class Hand:
     def need_took(self, letter):
         if not isinstance(letter, tuple) or len(letter) != 5 or not is_word(letter[0], ("took",)):
             raise BadLetter("a took letter is a tuple of five")
-        if not is_between(letter[1], self.number, self.number):
+        if not is_whole(letter[1]) or letter[1] != self.number:
             raise BadLetter("this letter is not for this hand")
         if not is_whole(letter[2]) or letter[2] < 1 or not is_between(letter[3], 0, MOST_HANDS - 1):
             raise BadLetter("no hand's change is taken with this number")

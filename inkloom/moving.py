@@ -1,6 +1,6 @@
 """How a change moves places."""
 
-from inkloom.changes import sizes
+from inkloom.changes import need_change
 from inkloom.errors import BadSide, NoPlace
 from inkloom.rows import many_upto
 from inkloom.signs import is_between, is_word
@@ -16,8 +16,7 @@ def need_side(side):
 class Track:
     # What is kept lies in runs; found by halving, so that many places are moved fast by a change of many parts.
     def __init__(self, change):
-        self.over = sizes(change)[0]
-        self.gives = sizes(change)[1]
+        need_change(change)
         self.olds = []
         self.news = []
         self.lengths = []
@@ -34,6 +33,8 @@ class Track:
                 self.lengths.append(what)
                 old = old + what
                 new = new + what
+        self.over = old
+        self.gives = new
 
     def to_left(self, place):
         run = many_upto(self.olds, place - 1) - 1

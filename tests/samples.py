@@ -3,6 +3,10 @@
 import copy
 import itertools
 
+from inkloom.changes import back, done
+from inkloom.joining import then
+from inkloom.passing import passed
+
 GOOD_SIGNS = [chr(code) for code in range(32, 127) if code != 37] + ["\n"]
 
 PUTS = [("put", "x"), ("put", "ya")]
@@ -324,3 +328,195 @@ def erased_plainly(text, cursors, word):
     cursors = [stepped_plainly(text, cursor, word, True) if cursor[0] == cursor[1] else cursor for cursor in cursors]
     cursors = settled_plainly(cursors)
     return entered_plainly(text, cursors, [""] * len(cursors))
+
+
+def still(size):
+    return [("keep", size)] if size else []
+
+
+class PlainHistory:
+    """The same tree, with the text of each node beside; plain and slow."""
+
+    def __init__(self, text):
+        self.texts = [text]
+        self.parents = [None]
+        self.changes = [None]
+        self.gone = [None]
+        self.now = 0
+
+    def children(self, node):
+        return [child for child, parent in enumerate(self.parents) if parent == node]
+
+    def do(self, change):
+        self.texts.append(done(self.texts[self.now], change))
+        self.parents.append(self.now)
+        self.changes.append(list(change))
+        self.gone.append(None)
+        self.gone[self.now] = len(self.texts) - 1
+        self.now = len(self.texts) - 1
+
+    def more(self, change):
+        if self.now == 0 or self.children(self.now) or self.now != len(self.texts) - 1:
+            return self.do(change)
+        self.texts[self.now] = done(self.texts[self.now], change)
+        self.changes[self.now] = then(self.changes[self.now], change)
+
+    def way(self, one, other):
+        ahead = {one: None}
+        row = [one]
+        for node in row:
+            for near in [self.parents[node]] + self.children(node):
+                if near is not None and near not in ahead:
+                    ahead[near] = node
+                    row.append(near)
+        told = [other]
+        while told[0] != one:
+            told.insert(0, ahead[told[0]])
+        return told
+
+    def edge(self, one, other):
+        return self.changes[other] if self.parents[other] == one else back(self.changes[one])
+
+    def go(self, node):
+        way = self.way(self.now, node)
+        told = still(len(self.texts[self.now]))
+        for one, other in zip(way, way[1:]):
+            told = then(told, self.edge(one, other))
+            if self.parents[other] == one:
+                self.gone[one] = other
+            else:
+                self.gone[other] = one
+        self.now = node
+        return told
+
+    def foreign(self, change, node=None, came_from=None):
+        node = self.now if node is None else node
+        for near in [self.parents[node]] + self.children(node):
+            if near is None or near == came_from:
+                continue
+            goes, edge = passed(change, self.edge(node, near))
+            self.foreign(goes, near, node)
+            if self.parents[near] == node:
+                self.changes[near] = edge
+            else:
+                self.changes[node] = back(edge)
+        self.texts[node] = done(self.texts[node], change)
+
+
+class PlainDesk:
+    """A desk whose text is a str, with rows of places beside; refusals are told by the names of their classes."""
+
+    def __init__(self, text):
+        self.text = text
+        self.cursors = [(0, 0, None)]
+        self.marks = []
+        self.spans = []
+        self.history = PlainHistory(text)
+        self.goes_on = False
+
+    def told(self):
+        """All that a desk tells of itself."""
+        marked = [(number, place) for number, (place, side) in enumerate(self.marks)]
+        spanned = [(number, min(begin, end), end) for number, (begin, end, grows) in enumerate(self.spans)]
+        return self.text, self.cursors, self.history.now, marked, spanned
+
+    def turn(self, text, change, cursors):
+        self.text = text
+        self.cursors = cursors
+        self.marks = [(place_behind(change, place, side), side) for place, side in self.marks]
+        self.spans = [(place_behind(change, begin, "left" if grows else "right"),
+                       place_behind(change, end, "right" if grows else "left"), grows)
+                      for begin, end, grows in self.spans]
+
+    def carry(self, change):
+        row = [[place_behind(change, place, "left") for place in cursor[:2]] + [None] for cursor in self.cursors]
+        self.turn(behind(self.text, change), change, settled_plainly([tuple(cursor) for cursor in row]))
+
+    def foreign(self, change):
+        self.history.foreign(change)
+        self.carry(change)
+        self.goes_on = False
+
+    def deed(self, deed):
+        """What a desk tells of a deed, or the name of the refusal."""
+        told = getattr(self, deed[0])(*deed[1:])
+        if not isinstance(told, str):
+            self.goes_on = deed[0] in ("enter", "paste") and any(part[0] != "keep" for part in told)
+        return told
+
+    def enter(self, text):
+        return self.paste((text,) * len(self.cursors))
+
+    def paste(self, texts):
+        if len(texts) != len(self.cursors):
+            return "BadDeed"
+        return self.change_by(entered_plainly(self.text, self.cursors, texts), self.goes_on)
+
+    def erase(self, word):
+        return self.change_by(erased_plainly(self.text, self.cursors, word), False)
+
+    def change_by(self, told, goes_on):
+        text, change, cursors = told
+        if change != still(len(self.text)):
+            (self.history.more if goes_on else self.history.do)(change)
+        self.turn(text, change, cursors)
+        return change
+
+    def step(self, word, hold):
+        self.cursors = settled_plainly([stepped_plainly(self.text, cursor, word, hold) for cursor in self.cursors])
+
+    def spread(self, place):
+        if place > len(self.text):
+            return "NoPlace"
+        cursors = settled_plainly(self.cursors + [(place, place, None)])
+        if len(cursors) > 40:
+            return "BadDeed"
+        self.cursors = cursors
+
+    def only(self):
+        self.cursors = self.cursors[:1]
+
+    def mark(self, side):
+        self.marks.append((self.cursors[0][1], side))
+        return len(self.marks) - 1
+
+    def span(self, grows):
+        self.spans.append((*sorted(self.cursors[0][:2]), grows))
+        return len(self.spans) - 1
+
+    def go(self, node):
+        if node is None or node >= len(self.history.texts):
+            return "NoNode"
+        change = self.history.go(node)
+        self.carry(change)
+        return change
+
+    def undo(self):
+        return self.go(self.history.parents[self.history.now])
+
+    def redo(self):
+        return self.go(self.history.gone[self.history.now])
+
+
+def some_deed(chance, size, nodes, cursors):
+    """A deed of any kind for a text of so many signs, a few of them to be refused."""
+    kind = chance.choice(["enter"] * 6 + ["paste"] * 4 + ["erase"] * 4 + ["step"] * 6 + ["spread"] * 4
+                         + ["only", "mark", "span", "undo", "undo", "redo", "redo", "go"])
+    if kind == "enter":
+        return (kind, some_text(chance, 2))
+    if kind == "paste":
+        many = cursors if chance.randrange(8) else chance.randrange(1, 5)
+        return (kind, tuple(some_text(chance, 2) for number in range(many)))
+    if kind == "erase":
+        return (kind, chance.choice(["left", "right", "back", "on", "home", "end"]))
+    if kind == "step":
+        return (kind, chance.choice(STEP_WORDS), chance.choice([True, False]))
+    if kind == "spread":
+        return (kind, chance.randrange(size + 2))
+    if kind == "mark":
+        return (kind, chance.choice(["left", "right"]))
+    if kind == "span":
+        return (kind, chance.choice([True, False]))
+    if kind == "go":
+        return (kind, chance.randrange(nodes + 1))
+    return (kind,)

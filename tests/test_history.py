@@ -3,88 +3,14 @@ import functools
 import random
 import unittest
 
-from inkloom.changes import back, done, need_change, sizes
+from inkloom.changes import done, need_change, sizes
 from inkloom.errors import BadChange, BadFit, NoNode, NoPlace
 from inkloom.history import History
 from inkloom.joining import then
-from inkloom.passing import passed
 
-from samples import no_changes, no_wholes, some_change, some_text
+from samples import PlainHistory, no_changes, no_wholes, some_change, some_text, still
 
 GREAT = 10 ** 12
-
-
-def still(size):
-    return [("keep", size)] if size else []
-
-
-class PlainHistory:
-    """The same tree, with the text of each node beside; plain and slow."""
-
-    def __init__(self, text):
-        self.texts = [text]
-        self.parents = [None]
-        self.changes = [None]
-        self.gone = [None]
-        self.now = 0
-
-    def children(self, node):
-        return [child for child, parent in enumerate(self.parents) if parent == node]
-
-    def do(self, change):
-        self.texts.append(done(self.texts[self.now], change))
-        self.parents.append(self.now)
-        self.changes.append(list(change))
-        self.gone.append(None)
-        self.gone[self.now] = len(self.texts) - 1
-        self.now = len(self.texts) - 1
-
-    def more(self, change):
-        if self.now == 0 or self.children(self.now) or self.now != len(self.texts) - 1:
-            return self.do(change)
-        self.texts[self.now] = done(self.texts[self.now], change)
-        self.changes[self.now] = then(self.changes[self.now], change)
-
-    def way(self, one, other):
-        ahead = {one: None}
-        row = [one]
-        for node in row:
-            for near in [self.parents[node]] + self.children(node):
-                if near is not None and near not in ahead:
-                    ahead[near] = node
-                    row.append(near)
-        told = [other]
-        while told[0] != one:
-            told.insert(0, ahead[told[0]])
-        return told
-
-    def edge(self, one, other):
-        return self.changes[other] if self.parents[other] == one else back(self.changes[one])
-
-    def go(self, node):
-        way = self.way(self.now, node)
-        told = still(len(self.texts[self.now]))
-        for one, other in zip(way, way[1:]):
-            told = then(told, self.edge(one, other))
-            if self.parents[other] == one:
-                self.gone[one] = other
-            else:
-                self.gone[other] = one
-        self.now = node
-        return told
-
-    def foreign(self, change, node=None, came_from=None):
-        node = self.now if node is None else node
-        for near in [self.parents[node]] + self.children(node):
-            if near is None or near == came_from:
-                continue
-            goes, edge = passed(change, self.edge(node, near))
-            self.foreign(goes, near, node)
-            if self.parents[near] == node:
-                self.changes[near] = edge
-            else:
-                self.changes[node] = back(edge)
-        self.texts[node] = done(self.texts[node], change)
 
 
 class HistoryCase(unittest.TestCase):

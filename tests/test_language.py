@@ -1,6 +1,6 @@
 """The form of the package's files, a first sieve: it finds common breaks of the rules of the language, not all.
 
-L11, L13 and L28 are not looked at; of L15, L18, L19, L23, L24 and L26 only a part is.
+L11 and L13 are not looked at; of L15, L18, L19, L23, L24, L26 and L28 only a part is.
 """
 
 import ast
@@ -32,9 +32,10 @@ NO_FILES = set("test tests testing site conftest sitecustomize usercustomize".sp
 NO_NAMES = set("""register mro elements open input version_info with_traceback add_note format format_map attrgetter
     breakpoint builtins compile copyright credits delattr dir eval exec exit gc getattr globals hasattr help id
     importlib license locals methodcaller os quit setattr super vars sys""".split())
-VALUES = set("count index find get lower upper split strip copy".split())
-NO_VALUES = set("""items keys values pop update append clear extend insert remove reverse setdefault sort args encode
-    format""".split())
+VALUES = set("count index title find get join lower upper split strip copy add".split())
+BUILT_IN = {name for kind in (str, int, list, dict, set, bytes) for name in dir(kind)}
+NO_VALUES = BUILT_IN - VALUES | {"args"}
+NO_METHODS = BUILT_IN - METHODS - UNDERSCORED - {"add", "discard"}
 NO_WORDS = re.compile(r"\b(type|typing|typing_extensions|enum|Enum|IntEnum|StrEnum|Flag|IntFlag|Generic|Protocol|ABC"
                       r"|ABCMeta|namedtuple|NamedTuple|TypedDict|TYPE_CHECKING|abstractmethod)\b"
                       r"|dataclass|overload|contextmanager")
@@ -164,6 +165,10 @@ class Rules:
         self.need(PLAIN_NAME.fullmatch(node.name) or in_class and node.name in UNDERSCORED, "L12", name, node)
         self.need(node.name not in NO_NAMES, "L17", name, node)
         self.need(in_class or node.name not in dir(builtins), "L15", name, node)
+        self.need(not in_class or node.name not in NO_METHODS, "L26", name, node)
+        if node.name == "__init__":
+            returns = [one for one in ast.walk(node) if isinstance(one, ast.Return)]
+            self.need(all(one.value is None for one in returns), "L28", name, node)
 
     def check_arguments(self, name, node):
         owner = self.parents[node]
@@ -329,6 +334,8 @@ BAD = [
     ("L22", "def f(a):\n    return [len]\n"), ("L22", "def f(a):\n    return a.split(sep=a)\n"),
     ("L23", "def f(a):\n    b = range(a)\n    return b\n"),
     ("L23", "def f(a):\n    for b in a:\n        a.append(b)\n"),
+    ("L26", "class A:\n    def sort(self):\n        pass\n"), ("L26", "def f(a):\n    a.keys = 1\n"),
+    ("L28", "class A:\n    def __init__(self):\n        return None\n"),
     ("L24", "def f(a):\n    a = set(a)\n"), ("L25", "def f(a):\n    a.sort()\n"), ("L27", "A = '%'\n"),
     ("L27", "A = '\\x41'\n"), ("L27", "def f(a):\n    return 2 ** a\n"),
 ]
